@@ -1,0 +1,1 @@
+"""Saidcounts: words said by counts."""

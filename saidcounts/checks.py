@@ -1,0 +1,66 @@
+"""What is asked of arguments before anything is done with them."""
+
+from saidcounts.errors import BadNumber, BadRule, BadWord, TooLong
+
+LETTERS = "abcd"
+MOST_LETTERS = 2000
+MOST_LETTERS_SAID = 20000
+MOST_RULE_NUMBERS = 30
+GREATEST_RULE_NUMBER = 10 ** 6
+GREATEST_COUNT = 10 ** 60
+
+
+def is_number(value):
+    """Whether a value is an integer; True and False are none here."""
+    return isinstance(value, int) and not isinstance(value, bool)
+
+
+def is_number_from(value, least):
+    """Whether a value is an integer that is not below the least one."""
+    return is_number(value) and value >= least
+
+
+def is_tuple_of(value, fewest, most):
+    """Whether a value is a tuple of so many items, whatever they are."""
+    return isinstance(value, tuple) and fewest <= len(value) <= most
+
+
+def are_numbers_from(value, least):
+    """Whether a value is a tuple of integers that are not below the least one."""
+    return isinstance(value, tuple) and all([is_number_from(item, least) for item in value])
+
+
+def check_word(word):
+    """Raise BadWord for a value that is no word."""
+    if not isinstance(word, str) or len(word) > MOST_LETTERS:
+        raise BadWord(None)
+    for place, sign in enumerate(word):
+        if sign not in LETTERS:
+            raise BadWord(place)
+
+
+def check_rule(rule):
+    """Raise BadRule for a value that is no rule."""
+    if not is_tuple_of(rule, 1, MOST_RULE_NUMBERS):
+        raise BadRule(None)
+    for index, number in enumerate(rule):
+        if not is_number_from(number, 0) or number > GREATEST_RULE_NUMBER:
+            raise BadRule(index)
+
+
+def check_number(value, least, most):
+    """Raise BadNumber for a value that is no integer from the least to the most one."""
+    if not is_number_from(value, least) or value > most:
+        raise BadNumber()
+
+
+def check_number_from(value, least):
+    """Raise BadNumber for a value that is no integer from the least one on."""
+    if not is_number_from(value, least):
+        raise BadNumber()
+
+
+def check_length(size):
+    """Raise TooLong for a number of letters that no word that is told back may have."""
+    if size > MOST_LETTERS_SAID:
+        raise TooLong(MOST_LETTERS_SAID)

@@ -1,0 +1,38 @@
+"""The errors that the package raises."""
+
+
+class SayError(ValueError):
+    """The base class of all errors of the package."""
+
+
+class BadWord(SayError):
+    """A value is no word; place is that of the first wrong sign, None if the whole value is wrong."""
+
+    def __init__(self, place):
+        self.place = place
+
+
+class BadRule(SayError):
+    """A value is no rule; index is that of the first wrong item, None if the whole value is wrong."""
+
+    def __init__(self, index):
+        self.index = index
+
+
+class BadCore(SayError):
+    """A word is no core."""
+
+
+class BadGaps(SayError):
+    """A value is no tuple of gaps for the core that it stands beside."""
+
+
+class BadNumber(SayError):
+    """A value is not among the numbers, tuples of numbers or tuples of words that are allowed."""
+
+
+class TooLong(SayError):
+    """An answer would be longer than most."""
+
+    def __init__(self, most):
+        self.most = most

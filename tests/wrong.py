@@ -1,0 +1,64 @@
+"""Wrong values for each kind of argument, with the error that each is to raise, and the check that it does."""
+
+from saidcounts.errors import BadCore, BadGaps, BadNumber, BadRule, BadWord
+
+NO_TUPLES = [None, True, False, 0, 1, -1, 10 ** 70, "", "a", "ab", [], [1], ["a"], ["a", "b"], {}, {"a": 1}, {1: 1}]
+NO_NUMBERS = [None, True, False, "", "1", "a", (), (1,), ("a",), [], [1], {}, {1: 1}]
+
+WORDS = [(value, BadWord(None)) for value in NO_NUMBERS if not isinstance(value, str)]
+WORDS += [(value, BadWord(None)) for value in [0, 1, "a" * 2001, "x" * 2001]]
+WORDS += [("e", BadWord(0)), ("A", BadWord(0)), ("ab c", BadWord(2)), ("abcde\n", BadWord(4)), ("ab\u00e4", BadWord(2))]
+WORDS += [("a" * 1999 + "1", BadWord(1999)), ("1", BadWord(0)), ("aexe", BadWord(1))]
+
+RULES = [(value, BadRule(None)) for value in NO_TUPLES + [(), (1,) * 31, ("x",) * 31]]
+RULES += [((value, "x"), BadRule(0)) for value in NO_NUMBERS + [-1, 10 ** 6 + 1, 10 ** 60]]
+RULES += [((1, value), BadRule(1)) for value in NO_NUMBERS + [-1, 10 ** 6 + 1, 10 ** 60]]
+RULES += [((1,) * 29 + (-1,), BadRule(29))]
+
+CORES = WORDS + [("aa", BadCore()), ("aabba", BadCore()), ("abbb", BadCore())]
+
+TWO_GAPS = [(value, BadGaps()) for value in NO_TUPLES + [(), (1,), (1, 1, 1)]]
+TWO_GAPS += [((value, 1), BadGaps()) for value in NO_NUMBERS + [0, -1]]
+TWO_GAPS += [((1, value), BadGaps()) for value in NO_NUMBERS + [0, -1]]
+
+
+def numbers(least, most=None):
+    """Wrong values for an integer from the least to the most one."""
+    wrong = [(value, BadNumber()) for value in NO_NUMBERS + [least - 1, least - 10 ** 70]]
+    if most is not None:
+        wrong += [(value, BadNumber()) for value in [most + 1, most * 10 ** 10 + 10 ** 70]]
+    return wrong
+
+
+def word_tuples(most):
+    """Wrong values for a tuple of 1 to so many words."""
+    wrong = [(value, BadNumber()) for value in NO_TUPLES + [(), ("a",) * (most + 1), (None,) * (most + 1)]]
+    return wrong + [(("a", value, "xx"), error) for value, error in WORDS]
+
+
+def failure(call, arguments):
+    """The class and the fields of the error that a call raises."""
+    try:
+        call(*arguments)
+    except ValueError as error:
+        return type(error), vars(error)
+    return None
+
+
+def check_errors(case, call, good, wrong):
+    """Each wrong value raises its error, whatever is wrong with the arguments to its right."""
+    call(*good)
+    for place, told in enumerate(wrong):
+        for value, error in told:
+            arguments = list(good)
+            arguments[place] = value
+            expected = (type(error), vars(error))
+            with case.subTest(call=call.__name__, arguments=arguments):
+                case.assertEqual(failure(call, arguments), expected)
+            for right in range(place + 1, len(good)):
+                for other, _ in wrong[right][:3] + wrong[right][-3:]:
+                    arguments = list(good)
+                    arguments[place] = value
+                    arguments[right] = other
+                    with case.subTest(call=call.__name__, arguments=arguments):
+                        case.assertEqual(failure(call, arguments), expected)
