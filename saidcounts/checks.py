@@ -39,6 +39,14 @@ def check_word(word):
             raise BadWord(place)
 
 
+def check_words(words, most):
+    """Raise BadNumber for a value that is no tuple of 1 to so many items, then BadWord for one that is no word."""
+    if not is_tuple_of(words, 1, most):
+        raise BadNumber()
+    for word in words:
+        check_word(word)
+
+
 def check_rule(rule):
     """Raise BadRule for a value that is no rule."""
     if not is_tuple_of(rule, 1, MOST_RULE_NUMBERS):

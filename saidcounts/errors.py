@@ -36,3 +36,10 @@ class TooLong(SayError):
 
     def __init__(self, most):
         self.most = most
+
+
+class BadPairs(SayError):
+    """A value is no tuple of pairs; index is that of the first wrong item, None if the whole value is wrong."""
+
+    def __init__(self, index):
+        self.index = index

@@ -59,9 +59,10 @@ def sums_of(told):
     return sums
 
 
-def with_gaps(word, told):
-    """The word with a core and gaps, however long it is."""
-    return moved(word, sums_of(told))
+def regapped(word, told):
+    """The word that has the core of a word, but told gaps, however long it is."""
+    sums = sums_of(told)
+    return moved(word, {mark: sums[index] for index, mark in enumerate(marks_of(word))})
 
 
 def length_with_gaps(word, told):
@@ -127,7 +128,7 @@ def from_gaps(word, told):
     check_core(word)
     check_gaps(word, told)
     check_length(length_with_gaps(word, told))
-    return with_gaps(word, told)
+    return regapped(word, told)
 
 
 def level_of(word, place):

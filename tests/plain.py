@@ -34,13 +34,31 @@ def gaps(word):
     return tuple(high - low for low, high in zip(told, told[1:]))
 
 
-def rows(one, other):
-    """All rows from one word to another one, by trying every tuple that is not plainly too great."""
-    many = max(marks(one))
-    most = max(marks(other))
-    return [row for row in product(range(1, most + 1), repeat=many) if say_by_row(row, one) == other]
-
-
 def say_by_row(row, word):
     """The word said by a row that has at least as many numbers as the last mark."""
     return say(row or (1,), word)
+
+
+def core(word):
+    """The word whose counts behind its runs are the indexes of those of the word."""
+    told = marks(word)
+    found = ""
+    for end in range(1, len(word) + 1):
+        letter = word[end - 1]
+        if word[end:end + 1] != letter:
+            index = told.index(word[:end].count(letter))
+            found += letter * (index - found.count(letter))
+    return found
+
+
+def rows_between(words):
+    """For each pair of words of which a row says one to the other: all these rows, ascending."""
+    most = max(map(len, words))
+    known = set(words)
+    found = {}
+    for one in words:
+        for row in product(range(1, most + 1), repeat=max(marks(one))):
+            other = say_by_row(row, one)
+            if other in known:
+                found.setdefault((one, other), []).append(row)
+    return found

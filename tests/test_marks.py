@@ -10,18 +10,6 @@ from wrong import CORES, TWO_GAPS, WORDS, check_errors, failure, numbers
 WORDS_HERE = words_to(7) + words_to(4, "abcd") + ["abcddcba", "aabbccddaabb", "a" * 2000, "ab" * 1000, "aab" * 300]
 
 
-def plain_core(word):
-    """The word whose counts behind its runs are the indexes of those of the word."""
-    told = plain.marks(word)
-    found = ""
-    for end in range(1, len(word) + 1):
-        letter = word[end - 1]
-        if word[end:end + 1] != letter:
-            index = told.index(word[:end].count(letter))
-            found += letter * (index - found.count(letter))
-    return found
-
-
 class Errors(unittest.TestCase):
     def test_each_is_a_direct_subclass(self):
         for error in (BadCore, BadGaps):
@@ -68,11 +56,11 @@ class Cores(unittest.TestCase):
 
     def test_indexes(self):
         for word in WORDS_HERE:
-            self.assertEqual(core(word), plain_core(word))
+            self.assertEqual(core(word), plain.core(word))
 
     def test_is_core(self):
         for word in WORDS_HERE:
-            self.assertIs(is_core(word), plain_core(word) == word)
+            self.assertIs(is_core(word), plain.core(word) == word)
             self.assertIs(is_core(core(word)), True)
 
     def test_long_core(self):
@@ -94,10 +82,10 @@ class FromGaps(unittest.TestCase):
             self.assertEqual(from_gaps(core(word), gaps(word)), word)
 
     def test_the_word_has_the_core_and_the_gaps(self):
-        for word in [word for word in words_to(5) + ["abcd", "dcdb", "abcabd"] if plain_core(word) == word]:
+        for word in [word for word in words_to(5) + ["abcd", "dcdb", "abcabd"] if plain.core(word) == word]:
             for told in product((1, 2, 4), repeat=len(plain.gaps(word))):
                 found = from_gaps(word, told)
-                self.assertEqual((plain_core(found), plain.gaps(found)), (word, told))
+                self.assertEqual((plain.core(found), plain.gaps(found)), (word, told))
 
     def test_limits(self):
         self.assertEqual(from_gaps("a", (20000,)), "a" * 20000)

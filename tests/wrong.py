@@ -1,6 +1,6 @@
 """Wrong values for each kind of argument, with the error that each is to raise, and the check that it does."""
 
-from saidcounts.errors import BadCore, BadGaps, BadNumber, BadRule, BadWord
+from saidcounts.errors import BadCore, BadGaps, BadNumber, BadPairs, BadRule, BadWord
 
 NO_TUPLES = [None, True, False, 0, 1, -1, 10 ** 70, "", "a", "ab", [], [1], ["a"], ["a", "b"], {}, {"a": 1}, {1: 1}]
 NO_NUMBERS = [None, True, False, "", "1", "a", (), (1,), ("a",), [], [1], {}, {1: 1}]
@@ -28,6 +28,21 @@ def numbers(least, most=None):
     if most is not None:
         wrong += [(value, BadNumber()) for value in [most + 1, most * 10 ** 10 + 10 ** 70]]
     return wrong
+
+
+ROWS = [(value, BadNumber()) for value in NO_TUPLES]
+ROWS += [((1, value), BadNumber()) for value in NO_NUMBERS + [0, -1]]
+ROWS += [((value,), BadNumber()) for value in NO_NUMBERS + [0, -1]]
+
+
+def pairs(most):
+    """Wrong values for a tuple of 1 to so many pairs of words."""
+    good = ("a", "aa")
+    wrong = [(value, BadPairs(None)) for value in NO_TUPLES + [(), (good,) * (most + 1), (None,) * (most + 1)]]
+    wrong += [((good, value, ("x", "x")), BadPairs(1)) for value in NO_TUPLES + [(), ("a",), ("a", "a", "a")]]
+    wrong += [((value, good), BadPairs(0)) for value in NO_TUPLES]
+    wrong += [((good, (value, "xx"), None), error) for value, error in WORDS]
+    return wrong + [((good, ("ab", value), None), error) for value, error in WORDS]
 
 
 def word_tuples(most):
