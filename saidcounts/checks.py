@@ -1,6 +1,6 @@
 """What is asked of arguments before anything is done with them."""
 
-from saidcounts.errors import BadNumber, BadRule, BadWord, TooLong
+from saidcounts.errors import BadLetter, BadNumber, BadPlace, BadRule, BadRules, BadWord, TooGreat, TooLong
 
 LETTERS = "abcd"
 MOST_LETTERS = 2000
@@ -56,6 +56,33 @@ def check_rule(rule):
             raise BadRule(index)
 
 
+def check_rule_without_zeros(rule):
+    """Raise BadRule for a value that is no rule, then for a rule with a number 0."""
+    check_rule(rule)
+    if 0 in rule:
+        raise BadRule(rule.index(0))
+
+
+def check_rules(rules):
+    """Raise BadRules for a value that is no tuple of an item for each letter, then BadRule for one that is no rule."""
+    if not is_tuple_of(rules, len(LETTERS), len(LETTERS)):
+        raise BadRules()
+    for rule in rules:
+        check_rule(rule)
+
+
+def check_letter(letter):
+    """Raise BadLetter for a value that is no letter."""
+    if not isinstance(letter, str) or len(letter) != 1 or letter not in LETTERS:
+        raise BadLetter()
+
+
+def check_place(place, most):
+    """Raise BadPlace for a value that is no integer from 0 to the most one."""
+    if not is_number_from(place, 0) or place > most:
+        raise BadPlace()
+
+
 def check_number(value, least, most):
     """Raise BadNumber for a value that is no integer from the least to the most one."""
     if not is_number_from(value, least) or value > most:
@@ -72,3 +99,9 @@ def check_length(size):
     """Raise TooLong for a number of letters that no word that is told back may have."""
     if size > MOST_LETTERS_SAID:
         raise TooLong(MOST_LETTERS_SAID)
+
+
+def check_greatness(number):
+    """Raise TooGreat for a number that no count may come to."""
+    if number > GREATEST_COUNT:
+        raise TooGreat(GREATEST_COUNT)

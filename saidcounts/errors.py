@@ -43,3 +43,22 @@ class BadPairs(SayError):
 
     def __init__(self, index):
         self.index = index
+
+
+class BadRules(SayError):
+    """A value is no tuple of four items, one for each letter."""
+
+
+class TooGreat(SayError):
+    """A number would be greater than most."""
+
+    def __init__(self, most):
+        self.most = most
+
+
+class BadLetter(SayError):
+    """A value is no letter."""
+
+
+class BadPlace(SayError):
+    """A value is no place of the word that it stands beside."""

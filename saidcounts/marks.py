@@ -25,30 +25,56 @@ def ends_of(word):
     return ends
 
 
+def marks_to(ends):
+    """The marks, ascending, of a word whose runs are told by the pairs of letter and end."""
+    return tuple(sorted(set([0] + [end for letter, end in ends])))
+
+
 def marks_of(word):
     """The marks of a word, ascending."""
-    return tuple(sorted(set([0] + [end for letter, end in ends_of(word)])))
+    return marks_to(ends_of(word))
+
+
+def gaps_to(ends):
+    """The differences of neighbor marks of a word whose runs are told by the pairs of letter and end."""
+    found = marks_to(ends)
+    return tuple([high - low for low, high in zip(found, found[1:])])
 
 
 def gaps_of(word):
     """The differences of neighbor marks of a word."""
-    found = marks_of(word)
-    return tuple([high - low for low, high in zip(found, found[1:])])
+    return gaps_to(ends_of(word))
+
+
+def runs_to(ends):
+    """The pairs of letter and number of runs that are told by the pairs of letter and end."""
+    stood = {letter: 0 for letter in LETTERS}
+    found = []
+    for letter, end in ends:
+        found.append((letter, end - stood[letter]))
+        stood[letter] = end
+    return found
+
+
+def written(pieces):
+    """The word that pairs of a letter and a number tell."""
+    return "".join([letter * size for letter, size in pieces])
 
 
 def moved(word, places):
     """The word with the same runs, but with their ends where the table of places puts them."""
-    stood = {letter: 0 for letter in LETTERS}
-    parts = []
-    for letter, end in ends_of(word):
-        parts.append(letter * (places[end] - stood[letter]))
-        stood[letter] = places[end]
-    return "".join(parts)
+    return written(runs_to([(letter, places[end]) for letter, end in ends_of(word)]))
+
+
+def core_to(ends):
+    """The core of a word whose runs are told by the pairs of letter and end."""
+    index = {mark: place for place, mark in enumerate(marks_to(ends))}
+    return written(runs_to([(letter, index[end]) for letter, end in ends]))
 
 
 def core_of(word):
     """The core of a word."""
-    return moved(word, {mark: index for index, mark in enumerate(marks_of(word))})
+    return core_to(ends_of(word))
 
 
 def sums_of(told):

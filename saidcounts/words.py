@@ -18,16 +18,26 @@ def sum_of_first(rule, count):
 
 def length_of_said(rule, word):
     """How many letters a word has when a rule has said it."""
-    return sum([sum_of_first(rule, word.count(letter)) for letter in LETTERS])
+    return length_of_said_each([rule] * len(LETTERS), word)
+
+
+def length_of_said_each(rules, word):
+    """How many letters a word has when each letter has been said by its own rule."""
+    return sum([sum_of_first(rule, word.count(letter)) for letter, rule in zip(LETTERS, rules)])
 
 
 def said_word(rule, word):
     """The word said by a rule, however long it is."""
+    return said_word_each([rule] * len(LETTERS), word)
+
+
+def said_word_each(rules, word):
+    """The word each letter of which is said by its own rule, however long it is."""
     stood = {letter: 0 for letter in LETTERS}
     parts = []
     for letter in word:
         stood[letter] += 1
-        parts.append(letter * number_of(rule, stood[letter]))
+        parts.append(letter * number_of(rules[LETTERS.index(letter)], stood[letter]))
     return "".join(parts)
 
 

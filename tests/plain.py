@@ -62,3 +62,47 @@ def rows_between(words):
             if other in known:
                 found.setdefault((one, other), []).append(row)
     return found
+
+
+def say_again(rule, word, many):
+    """The word said so many times, each time letter by letter."""
+    for _ in range(many):
+        word = say(rule, word)
+    return word
+
+
+def put(rule, count):
+    """Where a rule puts a count, number by number."""
+    return sum(rule[min(number, len(rule)) - 1] for number in range(1, count + 1))
+
+
+def cores_to(size, letters="ab"):
+    """All cores of at most so many letters."""
+    return [word for word in words_to(size, letters) if core(word) == word]
+
+
+def rows_of_gaps(many, most):
+    """All rows of so many gaps up to the most one."""
+    return list(product(range(1, most + 1), repeat=many))
+
+
+def with_gaps(told, row):
+    """The word that has a told core and a row of gaps, run by run."""
+    found = ""
+    stood = {letter: 0 for letter in LETTERS}
+    for end in range(1, len(told) + 1):
+        letter = told[end - 1]
+        if told[end:end + 1] != letter:
+            goal = sum(row[:told[:end].count(letter)])
+            found += letter * (goal - stood[letter])
+            stood[letter] = goal
+    return found
+
+
+def tall_words(size, most, letters="ab"):
+    """Triples of core, gaps and written word for all cores of at most so many letters and gaps up to the most one."""
+    found = []
+    for told in cores_to(size, letters):
+        for row in rows_of_gaps(max(marks(told)), most):
+            found.append((told, row, with_gaps(told, row)))
+    return found

@@ -1,6 +1,6 @@
 """Wrong values for each kind of argument, with the error that each is to raise, and the check that it does."""
 
-from saidcounts.errors import BadCore, BadGaps, BadNumber, BadPairs, BadRule, BadWord
+from saidcounts.errors import BadCore, BadGaps, BadLetter, BadNumber, BadPairs, BadPlace, BadRule, BadRules, BadWord
 
 NO_TUPLES = [None, True, False, 0, 1, -1, 10 ** 70, "", "a", "ab", [], [1], ["a"], ["a", "b"], {}, {"a": 1}, {1: 1}]
 NO_NUMBERS = [None, True, False, "", "1", "a", (), (1,), ("a",), [], [1], {}, {1: 1}]
@@ -15,11 +15,30 @@ RULES += [((value, "x"), BadRule(0)) for value in NO_NUMBERS + [-1, 10 ** 6 + 1,
 RULES += [((1, value), BadRule(1)) for value in NO_NUMBERS + [-1, 10 ** 6 + 1, 10 ** 60]]
 RULES += [((1,) * 29 + (-1,), BadRule(29))]
 
+RULES_WITHOUT_ZEROS = RULES + [((0,), BadRule(0)), ((1, 2, 0, 3, 0), BadRule(2)), ((1,) * 29 + (0,), BadRule(29))]
+RULES_WITHOUT_ZEROS += [((0, "x"), BadRule(1)), ((0, 1, -1), BadRule(2))]
+
+FOUR_RULES = [(value, BadRules()) for value in NO_TUPLES + [(), ((1,),) * 3, ((1,),) * 5, (None,) * 5, (1, 2, 3)]]
+FOUR_RULES += [(((1,), value, ("x",), None), error) for value, error in RULES]
+FOUR_RULES += [((value, (1,), (1,), ("x",)), error) for value, error in RULES]
+FOUR_RULES += [(((1,), (1,), (1,), value), error) for value, error in RULES]
+
 CORES = WORDS + [("aa", BadCore()), ("aabba", BadCore()), ("abbb", BadCore())]
 
 TWO_GAPS = [(value, BadGaps()) for value in NO_TUPLES + [(), (1,), (1, 1, 1)]]
 TWO_GAPS += [((value, 1), BadGaps()) for value in NO_NUMBERS + [0, -1]]
 TWO_GAPS += [((1, value), BadGaps()) for value in NO_NUMBERS + [0, -1]]
+
+
+TWO_TALL_GAPS = TWO_GAPS + [(row, BadGaps()) for row in [(10 ** 60 + 1, 1), (1, 10 ** 60 + 1), (1, 10 ** 90)]]
+
+NO_LETTERS = [None, True, 0, 1, 97, "", "e", "A", " ", "ab", "aa", "abcd", "bc", ("a",), ["a"], {"a": 1}, (), [], {}]
+NO_LETTERS = [(value, BadLetter()) for value in NO_LETTERS]
+
+
+def places(most):
+    """Wrong values for a place up to the most one."""
+    return [(value, BadPlace()) for value in NO_NUMBERS + [-1, -10 ** 70, most + 1, most + 10 ** 70]]
 
 
 def numbers(least, most=None):
