@@ -62,3 +62,18 @@ class BadLetter(SayError):
 
 class BadPlace(SayError):
     """A value is no place of the word that it stands beside."""
+
+
+class BadPattern(SayError):
+    """A value is no string of 1 to 6 letters."""
+
+
+class BadLevels(SayError):
+    """A value is no rising tuple of numbers of levels of the word that it stands beside."""
+
+
+class TooMany(SayError):
+    """There are more than most levels."""
+
+    def __init__(self, most):
+        self.most = most

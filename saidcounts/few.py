@@ -6,7 +6,7 @@ from saidcounts.checks import check_number
 from saidcounts.errors import TooLong
 from saidcounts.marks import regapped
 from saidcounts.order import growing_gaps, product_of
-from saidcounts.rules import count_of_parts, count_part, part_at, parts_between
+from saidcounts.rules import count_of_parts, parts_between, row_of_parts
 
 LEAST_BOUND = 2
 GREATEST_BOUND = 1000
@@ -90,10 +90,7 @@ def all_rules(one, other):
     parts = parts_between(one, other)
     if parts is None:
         return []
-    if count_of_parts(parts) > MOST_ROWS:
+    many = count_of_parts(parts)
+    if many > MOST_ROWS:
         raise TooLong(MOST_ROWS)
-    rows = [()]
-    for size, total in parts:
-        pieces = [part_at(size, total, rank) for rank in range(count_part(size, total))]
-        rows = [row + piece for row in rows for piece in pieces]
-    return rows
+    return [row_of_parts(parts, rank) for rank in range(many)]

@@ -66,6 +66,17 @@ def least_of_parts(parts):
     return tuple(row)
 
 
+def row_of_parts(parts, rank):
+    """The row with such parts that rank others stand ahead of, None if there is none."""
+    pieces = []
+    for size, total in reversed(parts):
+        rank, index = divmod(rank, count_part(size, total))
+        pieces.append(part_at(size, total, index))
+    if rank > 0:
+        return None
+    return tuple([number for piece in reversed(pieces) for number in piece])
+
+
 def count_rules(one, other):
     """How many rows say one to other."""
     parts = parts_between(one, other)
@@ -100,13 +111,7 @@ def rule_at(one, other, rank):
     check_number_from(rank, 0)
     if parts is None:
         return None
-    pieces = []
-    for size, total in reversed(parts):
-        rank, index = divmod(rank, count_part(size, total))
-        pieces.append(part_at(size, total, index))
-    if rank > 0:
-        return None
-    return tuple([number for piece in reversed(pieces) for number in piece])
+    return row_of_parts(parts, rank)
 
 
 def rank_of_rule(one, other, told):

@@ -1,6 +1,8 @@
 """Wrong values for each kind of argument, with the error that each is to raise, and the check that it does."""
 
-from saidcounts.errors import BadCore, BadGaps, BadLetter, BadNumber, BadPairs, BadPlace, BadRule, BadRules, BadWord
+from saidcounts.errors import (
+    BadCore, BadGaps, BadLetter, BadLevels, BadNumber, BadPairs, BadPattern, BadPlace, BadRule, BadRules, BadWord,
+)
 
 NO_TUPLES = [None, True, False, 0, 1, -1, 10 ** 70, "", "a", "ab", [], [1], ["a"], ["a", "b"], {}, {"a": 1}, {1: 1}]
 NO_NUMBERS = [None, True, False, "", "1", "a", (), (1,), ("a",), [], [1], {}, {1: 1}]
@@ -34,6 +36,14 @@ TWO_TALL_GAPS = TWO_GAPS + [(row, BadGaps()) for row in [(10 ** 60 + 1, 1), (1, 
 
 NO_LETTERS = [None, True, 0, 1, 97, "", "e", "A", " ", "ab", "aa", "abcd", "bc", ("a",), ["a"], {"a": 1}, (), [], {}]
 NO_LETTERS = [(value, BadLetter()) for value in NO_LETTERS]
+
+PATTERNS = [(value, BadPattern()) for value in NO_NUMBERS if not isinstance(value, str)]
+PATTERNS += [(value, BadPattern()) for value in [0, 1, "", "abcdabc", "e", "A", "abe", "ab ", "1", "ab\u00e4", "a\n"]]
+
+LEVELS_OF_TWO = [(value, BadLevels()) for value in NO_TUPLES]
+LEVELS_OF_TWO += [((1, value), BadLevels()) for value in NO_NUMBERS + [0, 1, -1, 3, 10 ** 70]]
+LEVELS_OF_TWO += [((value,), BadLevels()) for value in NO_NUMBERS + [0, -1, 3, 10 ** 70]]
+LEVELS_OF_TWO += [(row, BadLevels()) for row in [(2, 1), (1, 2, 3), (1, 1, 2), (0, 1, 2), (2, 2)]]
 
 
 def places(most):
