@@ -30,6 +30,11 @@ def are_numbers_from(value, least):
     return isinstance(value, tuple) and all([is_number_from(item, least) for item in value])
 
 
+def are_numbers_between(value, least, most):
+    """Whether a value is a tuple of integers from the least to the most one."""
+    return are_numbers_from(value, least) and all([item <= most for item in value])
+
+
 def check_word(word):
     """Raise BadWord for a value that is no word."""
     if not isinstance(word, str) or len(word) > MOST_LETTERS:
@@ -87,6 +92,11 @@ def check_number(value, least, most):
     """Raise BadNumber for a value that is no integer from the least to the most one."""
     if not is_number_from(value, least) or value > most:
         raise BadNumber()
+
+
+def check_kinds(many):
+    """Raise BadNumber for a value that is no number of kinds of letters."""
+    check_number(many, 1, len(LETTERS))
 
 
 def check_number_from(value, least):

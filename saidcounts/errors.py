@@ -77,3 +77,7 @@ class TooMany(SayError):
 
     def __init__(self, most):
         self.most = most
+
+
+class BadLetters(SayError):
+    """A value is no string of the letters that is asked for."""

@@ -1,7 +1,8 @@
 """Wrong values for each kind of argument, with the error that each is to raise, and the check that it does."""
 
 from saidcounts.errors import (
-    BadCore, BadGaps, BadLetter, BadLevels, BadNumber, BadPairs, BadPattern, BadPlace, BadRule, BadRules, BadWord,
+    BadCore, BadGaps, BadLetter, BadLetters, BadLevels, BadNumber, BadPairs, BadPattern, BadPlace, BadRule, BadRules,
+    BadWord,
 )
 
 NO_TUPLES = [None, True, False, 0, 1, -1, 10 ** 70, "", "a", "ab", [], [1], ["a"], ["a", "b"], {}, {"a": 1}, {1: 1}]
@@ -44,6 +45,21 @@ LEVELS_OF_TWO = [(value, BadLevels()) for value in NO_TUPLES]
 LEVELS_OF_TWO += [((1, value), BadLevels()) for value in NO_NUMBERS + [0, 1, -1, 3, 10 ** 70]]
 LEVELS_OF_TWO += [((value,), BadLevels()) for value in NO_NUMBERS + [0, -1, 3, 10 ** 70]]
 LEVELS_OF_TWO += [(row, BadLevels()) for row in [(2, 1), (1, 2, 3), (1, 1, 2), (0, 1, 2), (2, 2)]]
+
+COUNTS_TOLD = [(value, BadNumber()) for value in NO_TUPLES + [(), (1,) * 5, (None,) * 5]]
+COUNTS_TOLD += [((value,), BadNumber()) for value in NO_NUMBERS + [-1, 9, 10 ** 70]]
+COUNTS_TOLD += [((1, 0, 8, value), BadNumber()) for value in NO_NUMBERS + [-1, 9, 10 ** 70]]
+
+MARKS_TOLD = [(value, BadNumber()) for value in NO_TUPLES]
+MARKS_TOLD += [((value,), BadNumber()) for value in NO_NUMBERS + [-1, 0, 9, 10 ** 70]]
+MARKS_TOLD += [((1, value), BadNumber()) for value in NO_NUMBERS + [-1, 0, 1, 9, 10 ** 70]]
+MARKS_TOLD += [(row, BadNumber()) for row in [(2, 1), (1, 1, 2), (1, 3, 2), (0, 1), tuple(range(1, 10)), (2, 2)]]
+
+SOME_LETTERS = [(value, BadLetters()) for value in NO_NUMBERS if not isinstance(value, str)]
+SOME_LETTERS += [(value, BadLetters()) for value in [0, 1, "e", "A", " ", "abce", "ab\u00e4", "a\n", "1", "abcd "]]
+SOME_LETTERS += [(value, BadLetters()) for value in [("a", "b", "c", "d"), ["a", "b", "c", "d"], b"abcd"]]
+
+ALL_LETTERS = SOME_LETTERS + [(value, BadLetters()) for value in ["", "a", "abc", "abcda", "abca", "abcc", "aabbccdd"]]
 
 
 def places(most):
