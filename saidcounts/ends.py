@@ -30,18 +30,23 @@ def tall_runs(word, told):
     return runs_to(tall_ends(word, told))
 
 
-def said_ends(rule, ends):
-    """The ends of the runs of a word that is said by a rule; runs may fall away or come together."""
+def put_ends(ends, places):
+    """The ends of runs that are put where a table tells; runs may fall away or come together."""
     stood = {letter: 0 for letter in LETTERS}
     found = []
     for letter, end in ends:
-        place = sum_of_first(rule, end)
+        place = places[end]
         if place > stood[letter]:
             stood[letter] = place
             if found and found[-1][0] == letter:
                 found.pop()
             found.append((letter, place))
     return found
+
+
+def said_ends(rule, ends):
+    """The ends of the runs of a word that is said by a rule."""
+    return put_ends(ends, {end: sum_of_first(rule, end) for letter, end in ends})
 
 
 def tall_to(ends):

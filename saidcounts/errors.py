@@ -81,3 +81,18 @@ class TooMany(SayError):
 
 class BadLetters(SayError):
     """A value is no string of the letters that is asked for."""
+
+
+class NotText(SayError):
+    """A value is no string, or a longer one than a text may be."""
+
+
+class InvalidText(SayError):
+    """A text is that of no tall word; place is that of the first sign that is wrong or missing."""
+
+    def __init__(self, place):
+        self.place = place
+
+
+class NothingToUndo(SayError):
+    """A desk has no step that can be taken back."""

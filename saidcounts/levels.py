@@ -24,10 +24,10 @@ def check_levels(levels, many):
         raise BadLevels()
 
 
-def check_few_levels(word):
-    """Raise TooMany for a word of too many levels."""
-    if len(gaps_of(word)) > MOST_LEVELS:
-        raise TooMany(MOST_LEVELS)
+def check_few_levels(word, most):
+    """Raise TooMany for a word of more than most levels."""
+    if len(gaps_of(word)) > most:
+        raise TooMany(most)
 
 
 def without(word, levels):
@@ -64,7 +64,7 @@ def falls(rule, word):
 def cores_below(word):
     """The unlike cores that are left when levels are taken out of a core, shorter ones first."""
     check_core(word)
-    check_few_levels(word)
+    check_few_levels(word, MOST_LEVELS)
     found = sorted(set([core_of(without(word, lot)) for lot in lots_of_levels(word)]))
     return sorted(found, key=len)
 
@@ -73,7 +73,7 @@ def lots_between(one, other):
     """The lots of levels that, taken out of the core one, leave a word with the core other."""
     check_core(one)
     check_core(other)
-    check_few_levels(one)
+    check_few_levels(one, MOST_LEVELS)
     return lots_to_core(one, other)
 
 
@@ -102,7 +102,7 @@ def loose_groups(one, other):
     """For each way in which levels of one may fall so that the core of other is left: the groups that are left."""
     check_word(one)
     check_word(other)
-    check_few_levels(one)
+    check_few_levels(one, MOST_LEVELS)
     core = core_of(one)
     return [groups_left(core, lot) for lot in lots_to_core(core, core_of(other))]
 

@@ -32,6 +32,17 @@ def nim_of(told):
     return number
 
 
+def good_turns_of(told, number):
+    """The turns, as pairs of level and gap that is left, that change the nim number of some gaps by a number."""
+    found = []
+    for level, gap in enumerate(told, start=1):
+        # The heap that is left is to be worth as much as all others together.
+        left = (number ^ (gap - 1)) + 1
+        if left < gap:
+            found.append((level, left))
+    return found
+
+
 def tall_of(word):
     """The pair of the core and the gaps of a word."""
     check_word(word)
@@ -101,13 +112,8 @@ def tall_nim(word, told):
 def tall_turn(word, told):
     """The first turn, as a pair of level and gap, that leaves a word with the nim number 0, None if there is none."""
     check_tall(word, told)
-    number = nim_of(told)
-    for level, gap in enumerate(told, start=1):
-        # The heap that is left is to be worth as much as all others together.
-        left = (number ^ (gap - 1)) + 1
-        if left < gap:
-            return (level, left)
-    return None
+    found = good_turns_of(told, nim_of(told))
+    return found[0] if found else None
 
 
 def scaled(word, told, many):

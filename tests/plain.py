@@ -106,3 +106,13 @@ def tall_words(size, most, letters="ab"):
         for row in rows_of_gaps(max(marks(told)), most):
             found.append((told, row, with_gaps(told, row)))
     return found
+
+
+def left_without(word, levels):
+    """The letters of a word that lie in none of the levels, letter by letter."""
+    told = ""
+    for place, letter in enumerate(word):
+        number = word[:place + 1].count(letter)
+        if sum(1 for mark in marks(word) if mark < number) not in levels:
+            told += letter
+    return told

@@ -16,16 +16,6 @@ TEN = "ab" * 10
 ELEVEN = "ab" * 11
 
 
-def left_without(word, levels):
-    """The letters of a word that lie in none of the levels, letter by letter."""
-    told = ""
-    for place, letter in enumerate(word):
-        number = word[:place + 1].count(letter)
-        if sum(1 for mark in plain.marks(word) if mark < number) not in levels:
-            told += letter
-    return told
-
-
 def lots(word):
     """All lots of levels of a word."""
     levels = range(1, len(plain.gaps(word)) + 1)
@@ -40,7 +30,7 @@ class Levels(unittest.TestCase):
     def test_taken_out(self):
         for word in SMALL:
             for lot in lots(word):
-                self.assertEqual(taken_out(word, lot), left_without(word, lot), (word, lot))
+                self.assertEqual(taken_out(word, lot), plain.left_without(word, lot), (word, lot))
 
     def test_no_level_and_all_levels(self):
         for word in ("", "a", "aabba", "ab" * 1000):
@@ -83,7 +73,7 @@ class Cores(unittest.TestCase):
         for one in cores:
             found = {}
             for lot in lots(one):
-                found.setdefault(plain.core(left_without(one, lot)), []).append(lot)
+                found.setdefault(plain.core(plain.left_without(one, lot)), []).append(lot)
             self.assertEqual(cores_below(one), sorted(found, key=lambda core: (len(core), core)))
             for other in sorted(found) + ["b", "ba", "abab", "dcba"]:
                 self.assertEqual(ways_below(one, other), len(found.get(other, [])))

@@ -2,7 +2,7 @@
 
 from saidcounts.errors import (
     BadCore, BadGaps, BadLetter, BadLetters, BadLevels, BadNumber, BadPairs, BadPattern, BadPlace, BadRule, BadRules,
-    BadWord,
+    BadWord, NotText,
 )
 
 NO_TUPLES = [None, True, False, 0, 1, -1, 10 ** 70, "", "a", "ab", [], [1], ["a"], ["a", "b"], {}, {"a": 1}, {1: 1}]
@@ -60,6 +60,9 @@ SOME_LETTERS += [(value, BadLetters()) for value in [0, 1, "e", "A", " ", "abce"
 SOME_LETTERS += [(value, BadLetters()) for value in [("a", "b", "c", "d"), ["a", "b", "c", "d"], b"abcd"]]
 
 ALL_LETTERS = SOME_LETTERS + [(value, BadLetters()) for value in ["", "a", "abc", "abcda", "abca", "abcc", "aabbccdd"]]
+
+TEXTS = [(value, NotText()) for value in NO_NUMBERS if not isinstance(value, str)]
+TEXTS += [(value, NotText()) for value in [0, 1, b"aba:1,2", ["a", ":", "1"], ("a", ":", "1"), "a" * 4001, "?" * 4001]]
 
 
 def places(most):
